@@ -4,6 +4,7 @@ package interleave
 import (
 	"interleave/api"
 	"interleave/code"
+	"interleave/order"
 	"interleave/run"
 )
 
@@ -58,10 +59,26 @@ func (p *Program) Events(schedule []int) ([]api.Event, api.Errno) {
 }
 
 // Cycle tells a cycle of a schedule's groups (P8).
-func (p *Program) Cycle(schedule []int) ([]int, api.Errno) { return nil, api.OK }
+func (p *Program) Cycle(schedule []int) ([]int, api.Errno) {
+	_, events, ok := run.Follow(p.code, schedule)
+	if !ok {
+		return nil, api.ErrStep
+	}
+	return order.Cycle(events), api.OK
+}
 
 // Arrange brings a schedule's groups one behind the other (P9).
-func (p *Program) Arrange(schedule []int) ([]int, api.Errno) { return nil, api.OK }
+func (p *Program) Arrange(schedule []int) ([]int, api.Errno) {
+	_, events, ok := run.Follow(p.code, schedule)
+	if !ok {
+		return nil, api.ErrStep
+	}
+	arranged, atomic := order.Arrange(events)
+	if !atomic {
+		return nil, api.ErrKnot
+	}
+	return arranged, api.OK
+}
 
 // Check tells whether all runs are atomic (P10).
 func (p *Program) Check() api.Verdict { return api.Verdict{} }

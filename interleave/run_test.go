@@ -40,6 +40,12 @@ func checkRefused(t *testing.T, p *interleave.Program, text string, schedule []i
 	if l, e := p.Events(schedule); l != nil || e != api.ErrStep {
 		t.Errorf("P7: %q: Events(%v) = %+v, %d, want ErrStep", text, schedule, l, e)
 	}
+	if l, e := p.Cycle(schedule); l != nil || e != api.ErrStep {
+		t.Errorf("P8: %q: Cycle(%v) = %v, %d, want ErrStep", text, schedule, l, e)
+	}
+	if l, e := p.Arrange(schedule); l != nil || e != api.ErrStep {
+		t.Errorf("P9: %q: Arrange(%v) = %v, %d, want ErrStep", text, schedule, l, e)
+	}
 }
 
 func checkAnswers(t *testing.T, p *interleave.Program, text string, schedule, ready []int, r api.Result, events []api.Event) {
@@ -235,10 +241,7 @@ func TestAnswersAreFresh(t *testing.T) {
 	keptReady, keptEvents := slices.Clone(ready), slices.Clone(events)
 	for range 3 {
 		l, _ := p.Ready(nil)
-		for i := range l[:cap(l)] {
-			l[:cap(l)][i] = 99
-		}
-		_ = append(l, 98)
+		spoil(l)
 		v, _ := p.Events(schedule)
 		for i := range v[:cap(v)] {
 			v[:cap(v)][i] = api.Event{Thread: 99, Group: 99}
@@ -255,14 +258,51 @@ func TestAnswersAreFresh(t *testing.T) {
 	}
 }
 
+// spoil writes into all the memory of a list that came out.
+func spoil(l []int) {
+	for i := range l[:cap(l)] {
+		l[:cap(l)][i] = 99
+	}
+	_ = append(l, 98)
+}
+
+// P2: a cycle and an arranged schedule are the caller's too, and an arranged
+// one is not the schedule that was handed in, even if it is the same.
+func TestOrdersAreFresh(t *testing.T) {
+	p := program(t, "[ra+1wa]\n[ra+1wa]")
+	knot, rows := list(0, 1, 0, 1), list(0, 0, 1, 1)
+	cycle, _ := p.Cycle(knot)
+	same, _ := p.Arrange(rows)
+	keptCycle, keptSame := slices.Clone(cycle), slices.Clone(same)
+	for range 3 {
+		l, _ := p.Cycle(knot)
+		spoil(l)
+		l, _ = p.Arrange(rows)
+		spoil(l)
+	}
+	cycleAgain, _ := p.Cycle(knot)
+	sameAgain, _ := p.Arrange(rows)
+	if !slices.Equal(cycle, keptCycle) || !slices.Equal(cycleAgain, keptCycle) {
+		t.Errorf("P2: Cycle was %v, is %v, then %v", keptCycle, cycle, cycleAgain)
+	}
+	if !slices.Equal(same, keptSame) || !slices.Equal(sameAgain, keptSame) {
+		t.Errorf("P2: Arrange was %v, is %v, then %v", keptSame, same, sameAgain)
+	}
+	if !slices.Equal(knot, list(0, 1, 0, 1)) || !slices.Equal(rows, list(0, 0, 1, 1)) {
+		t.Errorf("P2: the schedules became %v and %v", knot, rows)
+	}
+}
+
 // P2: a schedule that is handed in is not written into, nor its spare room.
 func TestSchedulesAreLeft(t *testing.T) {
 	p := program(t, "[ra+1wa]\n[ra+1wa]")
-	for _, given := range [][]int{{0, 1, 0, 1, 77, 78}, {0, 0, 0, 1, 77, 78}} {
+	for _, given := range [][]int{{0, 1, 0, 1, 77, 78}, {1, 1, 0, 0, 77, 78}, {0, 0, 0, 1, 77, 78}} {
 		kept := slices.Clone(given)
 		p.Ready(given[:4])
 		p.Play(given[:4])
 		p.Events(given[:4])
+		p.Cycle(given[:4])
+		p.Arrange(given[:4])
 		if !slices.Equal(given, kept) {
 			t.Errorf("P2: the schedule %v became %v", kept, given)
 		}
