@@ -6,6 +6,7 @@ import (
 	"interleave/code"
 	"interleave/order"
 	"interleave/run"
+	"interleave/search"
 )
 
 // Program is a program text that was read.
@@ -46,7 +47,7 @@ func (p *Program) Play(schedule []int) (api.Result, api.Errno) {
 	if !ok {
 		return api.Result{}, api.ErrStep
 	}
-	return api.Result{End: state.End(p.code), Store: state.Store}, api.OK
+	return state.Result(p.code), api.OK
 }
 
 // Events tells what the steps of a schedule did (P7).
@@ -81,7 +82,10 @@ func (p *Program) Arrange(schedule []int) ([]int, api.Errno) {
 }
 
 // Check tells whether all runs are atomic (P10).
-func (p *Program) Check() api.Verdict { return api.Verdict{} }
+func (p *Program) Check() api.Verdict {
+	schedule, cycle := search.Knot(p.code)
+	return api.Verdict{Atomic: cycle == nil, Schedule: schedule, Cycle: cycle}
+}
 
 // Outcomes tells how runs can end (P11).
-func (p *Program) Outcomes() []api.Result { return nil }
+func (p *Program) Outcomes() []api.Result { return search.Outcomes(p.code) }

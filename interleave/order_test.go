@@ -4,7 +4,6 @@ import (
 	"fmt"
 	"math/rand"
 	"slices"
-	"strings"
 	"testing"
 
 	"interleave/api"
@@ -141,20 +140,24 @@ func canComeSideBySide(events []api.Event) bool {
 	return false
 }
 
-func checkCycle(t *testing.T, p *interleave.Program, text string, schedule []int, events []api.Event) {
-	t.Helper()
-	l, e := p.Cycle(schedule)
-	if e != api.OK || len(l) < 2 {
-		t.Errorf("P8: %q: Cycle(%v) = %v, %d, want a cycle", text, schedule, l, e)
-		return
-	}
-	table := aheads(events)
+// isCycle has the document's words for a cycle; none of its groups may be there
+// twice (P8).
+func isCycle(table [][]bool, l []int) bool {
 	for i, g := range l {
 		h := l[(i+1)%len(l)]
 		if g < 0 || g >= len(table) || h < 0 || h >= len(table) || !table[g][h] || slices.Contains(l[:i], g) {
-			t.Errorf("P8: %q: Cycle(%v) = %v, which is none", text, schedule, l)
-			return
+			return false
 		}
+	}
+	return len(l) >= 2
+}
+
+func checkCycle(t *testing.T, p *interleave.Program, text string, schedule []int, events []api.Event) {
+	t.Helper()
+	l, e := p.Cycle(schedule)
+	if e != api.OK || !isCycle(aheads(events), l) {
+		t.Errorf("P8: %q: Cycle(%v) = %v, %d, want a cycle", text, schedule, l, e)
+		return
 	}
 	if again, _ := program(t, text).Cycle(slices.Clone(schedule)); !slices.Equal(l, again) {
 		t.Errorf("P8: %q: Cycle(%v) = %v, then %v", text, schedule, l, again)
@@ -246,14 +249,7 @@ func TestOrderOfAllRuns(t *testing.T) {
 func TestOrderOfRandomRuns(t *testing.T) {
 	random := rand.New(rand.NewSource(3))
 	for range 600 {
-		var rows []string
-		left := 2 + random.Intn(4)
-		for left > 0 && len(rows) < api.MaxThreads {
-			steps := 1 + random.Intn(left)
-			rows = append(rows, randomThread(random, steps))
-			left -= steps
-		}
-		text := strings.Join(rows, "\n")
+		text := randomText(random, 2+random.Intn(4))
 		if len(text) <= api.MaxText {
 			checkOrder(t, program(t, text), text, nil, false)
 		}

@@ -119,17 +119,21 @@ func randomThread(random *rand.Rand, steps int) string {
 	return row.String()
 }
 
+// randomText is a text of about so many shared operations, in up to four rows.
+func randomText(random *rand.Rand, left int) string {
+	var rows []string
+	for left > 0 && len(rows) < api.MaxThreads {
+		steps := 1 + random.Intn(left)
+		rows = append(rows, randomThread(random, steps))
+		left -= steps
+	}
+	return strings.Join(rows, "\n")
+}
+
 func TestRandomRuns(t *testing.T) {
 	random := rand.New(rand.NewSource(1))
 	for range 3000 {
-		var rows []string
-		left := 1 + random.Intn(6)
-		for left > 0 && len(rows) < api.MaxThreads {
-			steps := 1 + random.Intn(left)
-			rows = append(rows, randomThread(random, steps))
-			left -= steps
-		}
-		text := strings.Join(rows, "\n")
+		text := randomText(random, 1+random.Intn(6))
 		if len(text) <= api.MaxText {
 			checkRuns(t, program(t, text), text, nil)
 		}

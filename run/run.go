@@ -131,3 +131,8 @@ func (s State) End(program code.Program) uint8 {
 	}
 	return end
 }
+
+// Result tells how the run stands, and what the variables hold.
+func (s State) Result(program code.Program) api.Result {
+	return api.Result{End: s.End(program), Store: s.Store}
+}
